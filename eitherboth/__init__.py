@@ -1,0 +1,1 @@
+"""Eitherboth: words of two deeds, and the finite orders that live among them."""

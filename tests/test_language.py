@@ -1,0 +1,115 @@
+"""What can be seen at a glance of the rules that the package's files keep to (LANGUAGE.md)."""
+
+import ast
+import builtins
+import pathlib
+import re
+import unittest
+
+PACKAGE = pathlib.Path(__file__).resolve().parent.parent / "eitherboth"
+FILES = sorted(path for path in PACKAGE.rglob("*") if path.is_file() and path.parent.name != "__pycache__")
+BUILTINS = set((
+    "len range enumerate zip min max sum abs sorted reversed int str bool bytes list tuple dict set isinstance ord "
+    "repr any all divmod Exception ValueError TypeError KeyError IndexError LookupError ZeroDivisionError "
+    "ArithmeticError OverflowError RuntimeError NotImplementedError AttributeError StopIteration NotImplemented super "
+    "property staticmethod classmethod"
+).split())
+METHODS = set((
+    "append clear copy count endswith extend find get index insert isalnum isalpha isdigit islower isspace isupper "
+    "items join keys ljust lower lstrip partition pop remove replace reverse rfind rjust rpartition rsplit rstrip "
+    "setdefault split splitlines startswith strip update upper values zfill bit_length add discard sort isascii "
+    "isdecimal removeprefix removesuffix"
+).split())
+BARRED_WORDS = set((
+    "type typing typing_extensions enum Enum IntEnum StrEnum Flag IntFlag Generic Protocol ABC ABCMeta namedtuple "
+    "NamedTuple TypedDict TYPE_CHECKING abstractmethod"
+).split())
+BARRED_NODES = (
+    ast.Global, ast.AsyncFunctionDef, ast.AsyncFor, ast.AsyncWith, ast.Await, ast.Div, ast.Import, ast.MatMult,
+)
+
+
+def trees():
+    return [(path, ast.parse(path.read_text())) for path in FILES]
+
+
+def nodes(kind):
+    return [(path, node) for path, tree in trees() for node in ast.walk(tree) if isinstance(node, kind)]
+
+
+def own_methods():
+    return {inner.name for path, node in nodes(ast.ClassDef) for inner in node.body if hasattr(inner, "name")}
+
+
+class LanguageTest(unittest.TestCase):
+    def test_files(self):
+        self.assertIn(PACKAGE / "__init__.py", FILES)
+        self.assertLessEqual(len(FILES), 100)
+        for path in FILES:
+            self.assertRegex(path.name, r"\A[a-z][a-z0-9_]*\.py\Z|\A__(init|main)__\.py\Z")
+
+    def test_signs_and_sizes(self):
+        for path in FILES:
+            text = path.read_text()
+            self.assertRegex(text, r"\A[ -~\n]*\Z", path.name)
+            self.assertLessEqual(len(text.splitlines()), 400, path.name)
+            self.assertLessEqual(max(len(line) for line in text.splitlines()), 120, path.name)
+        for path, node in nodes(ast.FunctionDef):
+            self.assertLessEqual(node.end_lineno - node.lineno + 1, 40, f"{path.name} {node.name}")
+
+    def test_barred_words(self):
+        for path in FILES:
+            text = path.read_text()
+            self.assertEqual(set(re.findall(r"\w+", text)) & BARRED_WORDS, set(), path.name)
+            self.assertIsNone(re.search("dataclass|overload|contextmanager", text), path.name)
+
+    def test_imports_name_the_file_that_defines_the_name(self):
+        for path, node in nodes(ast.ImportFrom):
+            if node.module == "__future__":
+                continue
+            self.assertEqual(node.level, 0, path.name)
+            self.assertRegex(node.module, r"\Aeitherboth\.[a-z0-9_]+\Z", path.name)
+            tree = ast.parse((PACKAGE / (node.module.split(".")[1] + ".py")).read_text())
+            defined = {inner.name for inner in tree.body if isinstance(inner, (ast.FunctionDef, ast.ClassDef))}
+            for inner in tree.body:
+                if isinstance(inner, ast.Assign):
+                    defined.update(target.id for target in inner.targets)
+            self.assertLessEqual({alias.name for alias in node.names}, defined, path.name)
+
+    def test_statements(self):
+        for path, node in nodes(BARRED_NODES):
+            self.fail(f"{path.name}: {ast.dump(node)}")
+
+    def test_names(self):
+        for path, node in nodes(ast.Name):
+            where = f"{path.name} line {node.lineno}: {node.id}"
+            self.assertFalse(node.id.startswith("_"), where)
+            if hasattr(builtins, node.id):
+                self.assertIn(node.id, BUILTINS, where)
+                self.assertIsInstance(node.ctx, ast.Load, where)
+        for path, node in nodes(ast.arg):
+            self.assertFalse(hasattr(builtins, node.arg) or node.arg.startswith("_"), f"{path.name}: {node.arg}")
+
+    def test_called_methods(self):
+        known = METHODS | own_methods()
+        for path, node in nodes(ast.Call):
+            if isinstance(node.func, ast.Attribute):
+                self.assertIn(node.func.attr, known, f"{path.name} line {node.lineno}")
+
+    def test_is_stands_beside_none_and_truths_only(self):
+        for path, node in nodes(ast.Compare):
+            for sign, right in zip(node.ops, node.comparators):
+                if isinstance(sign, (ast.Is, ast.IsNot)):
+                    plain = isinstance(right, ast.Constant) and right.value in (None, True, False)
+                    self.assertTrue(plain, f"{path.name} line {node.lineno}")
+
+    def test_constants(self):
+        for path, node in nodes(ast.Constant):
+            where = f"{path.name} line {node.lineno}"
+            self.assertNotIsInstance(node.value, (float, complex), where)
+            if isinstance(node.value, str):
+                self.assertNotIn("%", node.value, where)
+
+
+if __name__ == "__main__":
+    unittest.main()

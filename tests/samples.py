@@ -67,6 +67,13 @@ def sample_words():
     return small_words() + great_words()
 
 
+def within(bottom, deep, wrap):
+    """The bottom with so many wraps around it."""
+    for k in range(deep):
+        bottom = wrap(bottom)
+    return bottom
+
+
 def strewn(thing):
     """The thing and all that is within it, one after another, as often as it stands."""
     found = [thing]
@@ -108,3 +115,302 @@ def read_one(text):
         arms.append(arm)
     assert rest[0] == ")"
     return ({"|": "up", "&": "down"}[sign], *arms), rest[1:]
+
+
+def order_of(many, pairs):
+    """The order of so many things in which the first of each pair is below the second, and what follows from it."""
+    rows = [1 << k for k in range(many)]
+    for low, high in pairs:
+        rows[low] |= 1 << high
+    for middle in range(many):
+        for k in range(many):
+            if rows[k] >> middle & 1:
+                rows[k] |= rows[middle]
+    return tuple(rows)
+
+
+def chain(many):
+    """Things one above another, 0 lowest."""
+    return order_of(many, [(k, k + 1) for k in range(many - 1)])
+
+
+def sets_order(letters):
+    """All sets of so many letters, by lying within."""
+    many = 1 << letters
+    return order_of(many, [(k, m) for k in range(many) for m in range(many) if k & m == k])
+
+
+def product(first, second):
+    """All pairs of things, a pair at or below another where both of its things are."""
+    wide = len(second)
+    every = range(len(first) * wide)
+    return order_of(len(every), [
+        (k, m) for k in every for m in every if first[k // wide] >> m // wide & 1 and second[k % wide] >> m % wide & 1
+    ])
+
+
+def flat(many):
+    """A lowest and a highest thing, and so many between of which none is below another."""
+    return order_of(many + 2, [(0, many + 1)] + [(0, k) for k in range(1, many + 1)]
+                    + [(k, many + 1) for k in range(1, many + 1)])
+
+
+def renumbered(order, numbers):
+    """The same order with thing k called numbers[k]."""
+    every = range(len(order))
+    return order_of(len(order), [(numbers[k], numbers[m]) for k in every for m in every if order[k] >> m & 1])
+
+
+SIDE = order_of(5, [(0, 1), (1, 2), (2, 4), (0, 3), (3, 4)])
+THREE = flat(3)
+# Two things below two others, once with a highest and a lowest one around them, once with one of these, once bare.
+CROSS = order_of(6, [(0, 1), (0, 2), (1, 3), (1, 4), (2, 3), (2, 4), (3, 5), (4, 5)])
+CROSS_LOW = order_of(5, [(0, 1), (0, 2), (1, 3), (1, 4), (2, 3), (2, 4)])
+CROSS_HIGH = order_of(5, [(0, 2), (0, 3), (1, 2), (1, 3), (2, 4), (3, 4)])
+CROSS_BARE = order_of(4, [(0, 2), (0, 3), (1, 2), (1, 3)])
+
+
+def full_orders():
+    """Full orders of up to twenty-four things, the same ones each time."""
+    orders = [chain(many) for many in range(1, 9)] + [flat(many) for many in range(2, 7)]
+    orders += [SIDE, THREE, sets_order(2), sets_order(3), sets_order(4), chain(16), chain(24)]
+    orders += [product(chain(2), SIDE), product(chain(3), THREE), product(chain(4), sets_order(2))]
+    orders.append(product(chain(4), flat(4)))
+    chance = random.Random(8)
+    return orders + [renumbered(order, chance.sample(range(len(order)), len(order))) for order in orders]
+
+
+def chance_order(chance, many, dense):
+    """An order of so many things; the denser, the more pairs are below one another."""
+    numbers = chance.sample(range(many), many)
+    return order_of(many, [
+        (numbers[k], numbers[m]) for k in range(many) for m in range(k + 1, many) if chance.random() < dense
+    ])
+
+
+def other_orders():
+    """Orders that are not full, of up to twenty-four things, the same ones each time."""
+    orders = [(1, 2), (1, 2, 4), CROSS, CROSS_LOW, CROSS_HIGH, CROSS_BARE]
+    orders += [order_of(3, [(0, 1), (0, 2)]), order_of(3, [(0, 2), (1, 2)]), tuple(1 << k for k in range(24))]
+    orders += [product(CROSS, chain(2)), product(CROSS, chain(4)), product(SIDE, CROSS_BARE)]
+    chance = random.Random(16)
+    some = [chance_order(chance, many, dense) for many in range(2, 25) for dense in (0.1, 0.3, 0.6)]
+    return orders + [order for order in some if lack_by_looking(order) is not None]
+
+
+def looks_like_order(thing):
+    """Point 7 said out of the document, for any thing."""
+    if type(thing) is not tuple or len(thing) < 1:
+        return False
+    if not all(type(row) is int and 0 <= row < 2 ** len(thing) for row in thing):
+        return False
+    above = [{j for j in range(len(thing)) if row & 2 ** j} for row in thing]
+    for i, row in enumerate(above):
+        if i not in row:
+            return False
+        for j in row:
+            if (i != j and i in above[j]) or not above[j] <= row:
+                return False
+    return True
+
+
+def least_of(order, things):
+    """The one of some things that is at or below each of them, None where there is none."""
+    found = [thing for thing in things if all(order[thing] >> other & 1 for other in things)]
+    return found[0] if found else None
+
+
+def greatest_of(order, things):
+    """The one of some things that each of them is at or below, None where there is none."""
+    found = [thing for thing in things if all(order[other] >> thing & 1 for other in things)]
+    return found[0] if found else None
+
+
+def bound_by_looking(order, deed, one, other):
+    """The least above of two things by "up", their greatest below by "down", None where there is none."""
+    every = range(len(order))
+    if deed == "up":
+        return least_of(order, [k for k in every if order[one] >> k & 1 and order[other] >> k & 1])
+    return greatest_of(order, [k for k in every if order[k] >> one & 1 and order[k] >> other & 1])
+
+
+def lack_by_looking(order):
+    """The first lack of an order by point 8."""
+    for i in range(len(order)):
+        for j in range(i + 1, len(order)):
+            for deed in DEEDS:
+                if bound_by_looking(order, deed, i, j) is None:
+                    return (deed, i, j)
+    return None
+
+
+def is_full_at_once(order):
+    """True where each two things have both bounds, told in good time of some hundred things."""
+    every = range(len(order))
+    under = [sum(1 << k for k in every if order[k] >> m & 1) for m in every]
+    for rows in (order, under):
+        # The least of what two things share is the one with the most above it; only this one can be their bound.
+        by_most = sorted(every, key=lambda k: -rows[k].bit_count())
+        for i in every:
+            for j in range(i + 1, len(order)):
+                shared = rows[i] & rows[j]
+                first = next((k for k in by_most if shared >> k & 1), None)
+                if first is None or rows[first] & shared != shared:
+                    return False
+    return True
+
+
+def worth_by_looking(order, word, things):
+    """The worth of a word by point 9, with the things of the letters in a dict."""
+    if isinstance(word, str):
+        return things[word]
+    worths = [worth_by_looking(order, arm, things) for arm in word[1:]]
+    every = range(len(order))
+    if word[0] == "up":
+        return least_of(order, [k for k in every if all(order[worth] >> k & 1 for worth in worths)])
+    return greatest_of(order, [k for k in every if all(order[k] >> worth & 1 for worth in worths)])
+
+
+def below_by_rules(one, other, known=None):
+    """Point 10 said out of the document: True where one of its five cases holds."""
+    known = {} if known is None else known
+    if (one, other) not in known:
+        known[one, other] = (
+            (isinstance(one, str) and one == other)
+            or (one[0] == "up" and all(below_by_rules(arm, other, known) for arm in one[1:]))
+            or (other[0] == "down" and all(below_by_rules(one, arm, known) for arm in other[1:]))
+            or (one[0] == "down" and any(below_by_rules(arm, other, known) for arm in one[1:]))
+            or (other[0] == "up" and any(below_by_rules(one, arm, known) for arm in other[1:]))
+        )
+    return known[one, other]
+
+
+def walks(one, other, way):
+    """Point 11 said out of the document: True where the thing is a way that shows that the one is below the other."""
+    if type(way) is not tuple or not way or type(way[0]) is not str:
+        return False
+    name, rest = way[0], way[1:]
+    if name == "same":
+        return rest == () and one == other
+    if name == "arms" and one[0] == "up":
+        return len(rest) == len(one) - 1 and all(walks(arm, other, step) for arm, step in zip(one[1:], rest))
+    if name == "each" and other[0] == "down":
+        return len(rest) == len(other) - 1 and all(walks(one, arm, step) for arm, step in zip(other[1:], rest))
+    if name not in ("from", "into") or len(rest) != 2 or type(rest[0]) is not int:
+        return False
+    if name == "from" and one[0] == "down" and rest[0] in range(len(one) - 1):
+        return walks(one[1 + rest[0]], other, rest[1])
+    if name == "into" and other[0] == "up" and rest[0] in range(len(other) - 1):
+        return walks(one, other[1 + rest[0]], rest[1])
+    return False
+
+
+def letters_in(word):
+    """All letters of a word, a set."""
+    return {inner for inner in strewn(word) if isinstance(inner, str)} - set(DEEDS)
+
+
+def breaks_it(one, other, thing):
+    """Point 12 said out of the document: True where the thing is a break of the two words."""
+    if type(thing) is not tuple or len(thing) != 2:
+        return False
+    order, choice = thing
+    if not looks_like_order(order) or type(choice) is not tuple:
+        return False
+    if not all(type(row) is tuple and len(row) == 2 for row in choice):
+        return False
+    letters = [letter for letter, number in choice]
+    if not all(type(letter) is str and len(letter) == 1 and "a" <= letter <= "z" for letter in letters):
+        return False
+    if letters != sorted(set(letters)) or not letters_in(one) | letters_in(other) <= set(letters):
+        return False
+    if not all(type(number) is int and 0 <= number < len(order) for letter, number in choice):
+        return False
+    if not is_full_at_once(order):
+        return False
+    low, high = (worth_by_looking(order, word, dict(choice)) for word in (one, other))
+    return not order[low] >> high & 1
+
+
+def word_parts(word):
+    """All parts of a word, a set."""
+    if isinstance(word, str):
+        return {word}
+    return {word}.union(*[word_parts(arm) for arm in word[1:]])
+
+
+def parts_below_all(parts, held, known):
+    """All parts that are below the "up" of those that are held, by point 10."""
+    held = sorted(held, key=repr)
+    if not held:
+        return frozenset()
+    together = held[0] if len(held) == 1 else ("up", *held)
+    return frozenset(part for part in parts if below_by_rules(part, together, known))
+
+
+def closed_by_trying(one, other):
+    """How many sets of parts of the two words are closed, each set of parts looked at."""
+    parts = sorted(word_parts(one) | word_parts(other), key=repr)
+    known = {}
+    tries = [held for many in range(len(parts) + 1) for held in itertools.combinations(parts, many)]
+    return sum(parts_below_all(parts, held, known) == set(held) for held in tries)
+
+
+def closed_by_joining(one, other, most):
+    """How many sets of parts of the two words are closed, or, where there are more than most, some more than these."""
+    parts = sorted(word_parts(one) | word_parts(other), key=repr)
+    known = {}
+    under = {part: parts_below_all(parts, [part], known) for part in parts}
+    found = {frozenset()}
+    for part in parts:
+        for held in list(found):
+            # A part below another one that is held adds nothing, so that the "up" has few arms.
+            tops = [top for top in held if not any(under[top] < under[above] for above in held)]
+            found.add(parts_below_all(parts, [*tops, part], known))
+            if len(found) > most:
+                return len(found)
+    return len(found)
+
+
+def one_change(thing, news=()):
+    """Every thing that comes when one part of the thing, at any depth, is put otherwise, left out or put in."""
+    made = list(news)
+    if type(thing) is int:
+        made += [thing + 1, thing - 1, -1 - thing, str(thing), None, (thing,), [thing], 10 ** 59]
+        made += [bool(thing)] if thing in (0, 1) else [True]
+    elif isinstance(thing, str):
+        made += ["", thing + " ", thing.upper(), 0, None, (thing,), [thing]]
+        made += [name for name in ("same", "arms", "each", "from", "into", "a", "z") if name != thing]
+    elif isinstance(thing, tuple):
+        made += [list(thing), (), None, 0, True, "", (thing,)]
+        for at, inner in enumerate(thing):
+            before, behind = thing[:at], thing[at + 1:]
+            made += [before + behind, before + (inner, inner) + behind, before + (("same",), inner) + behind]
+            made += [before + (0, inner) + behind, before + behind[:1] + (inner,) + behind[1:]]
+            made += [before + (new,) + behind for new in one_change(inner, news)]
+    return made
+
+
+def word_pairs(many, seed, letters="abcd"):
+    """Pairs of words of up to twelve places, the same ones each time, many of them below one another."""
+    chance = random.Random(seed)
+    pairs = []
+    for k in range(many):
+        some = letters[:chance.randint(1, len(letters))]
+        one, other = (chance_word(chance, chance.randint(1, 6), some) for deed in DEEDS)
+        pairs += [(one, other), (("down", one, "a"), ("up", other, one)), (("down", one, other), ("up", "b", other))]
+        pairs.append(tuple(chance_word(chance, chance.randint(7, 12), some) for deed in DEEDS))
+    return pairs
+
+
+def told_pairs(put_in):
+    """Pairs of words of more than twelve places that put_in tells, the same ones each time."""
+    chance = random.Random(21)
+    pairs = []
+    for k in range(25):
+        words = [chance_word(chance, 12, "ab") for m in range(4)]
+        rows = (("a", words[2]), ("b", words[3]))
+        pairs += [(put_in(words[0], rows), put_in(words[1], rows)), (put_in(words[0], rows), words[2])]
+    deep = put_in(deep_word(12), tuple((letter, deep_word(12)) for letter in "abc"))
+    wide = put_in(wide_word(12), tuple((letter, ("down", "a", deep_word(11))) for letter in "abcdefghij"))
+    return pairs + [(deep, deep_word(12)), (deep_word(12), deep), (deep, wide), (wide, deep), (wide, wide)]

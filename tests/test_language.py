@@ -90,6 +90,43 @@ class LanguageTest(unittest.TestCase):
         for path, node in nodes(ast.arg):
             self.assertFalse(hasattr(builtins, node.arg) or node.arg.startswith("_"), f"{path.name}: {node.arg}")
 
+    def test_inner_names_are_no_names_of_classes_and_imports(self):
+        for path, tree in trees():
+            taken = {node.name for node in tree.body if isinstance(node, ast.ClassDef)}
+            for node in tree.body:
+                if isinstance(node, ast.ImportFrom):
+                    taken.update(alias.asname or alias.name for alias in node.names)
+            for node in ast.walk(tree):
+                if isinstance(node, ast.arg):
+                    self.assertNotIn(node.arg, taken, f"{path.name} line {node.lineno}")
+                if isinstance(node, ast.Name) and not isinstance(node.ctx, ast.Load):
+                    self.assertNotIn(node.id, taken, f"{path.name} line {node.lineno}")
+
+    def test_no_name_is_a_method_and_an_attribute(self):
+        stored = {node.attr for path, node in nodes(ast.Attribute) if isinstance(node.ctx, ast.Store)}
+        self.assertEqual(own_methods() & stored, set())
+        for path, node in nodes(ast.Attribute):
+            self.assertIn(node.attr, stored | own_methods() | METHODS, f"{path.name} line {node.lineno}")
+
+    def test_sets_are_not_iterated(self):
+        for path, node in nodes((ast.For, ast.comprehension)):
+            made = isinstance(node.iter, (ast.Set, ast.SetComp))
+            called = isinstance(node.iter, ast.Call) and isinstance(node.iter.func, ast.Name)
+            self.assertFalse(made or (called and node.iter.func.id in ("set", "frozenset")), path.name)
+
+    def test_no_file_imports_from_one_that_imports_from_it(self):
+        sources = {path.stem: set() for path in FILES}
+        for path, node in nodes(ast.ImportFrom):
+            sources[path.stem].update(node.module.split(".")[1:2])
+        for name in sources:
+            reached, waiting = set(), list(sources[name])
+            while waiting:
+                other = waiting.pop()
+                if other not in reached:
+                    reached.add(other)
+                    waiting.extend(sources[other])
+            self.assertNotIn(name, reached)
+
     def test_called_methods(self):
         known = METHODS | own_methods()
         for path, node in nodes(ast.Call):

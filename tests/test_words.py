@@ -6,7 +6,7 @@ import unittest
 from eitherboth.words import is_word, letters_of, parts_of, places_of, put_in, text_of, word_turned
 from samples import (
     DEEDS, deep_word, great_words, only_told_kinds, put_otherwise, read_back, sample_words, small_words, strewn,
-    wide_word,
+    wide_word, within,
 )
 
 LETTERS = "abcdefghijklmnopqrstuvwxyz"
@@ -49,13 +49,6 @@ def balanced_texts(text):
         elif sign.isalpha():
             found.add(sign)
     return sorted(found)
-
-
-def within(bottom, deep, wrap):
-    """The bottom with so many wraps around it."""
-    for k in range(deep):
-        bottom = wrap(bottom)
-    return bottom
 
 
 class IsWordTest(unittest.TestCase):

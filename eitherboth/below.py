@@ -38,6 +38,10 @@ class Parts:
             self.settled[pair] = self.comes_below(one, other)
         return self.settled[pair]
 
+    def alike(self, one, other):
+        """True where each of two parts is below the other."""
+        return self.below(one, other) and self.below(other, one)
+
     def comes_below(self, one, other):
         """True where one of two unlike parts is below the other by what holds of their arms."""
         if self.signs[one] == UP:

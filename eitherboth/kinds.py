@@ -2,6 +2,7 @@
 
 UP = "up"
 DOWN = "down"
+LETTERS = "abcdefghijklmnopqrstuvwxyz"
 
 
 def is_whole(thing):

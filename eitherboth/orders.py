@@ -1,6 +1,6 @@
 """Finite orders: their kinds, least aboves and greatest belows, the worths of words, what some things make."""
 
-from eitherboth.errors import NoFull, NoLetter
+from eitherboth.errors import NoFull, NoLetter, NoRoom
 from eitherboth.kinds import DOWN, UP, is_letter, is_whole
 
 
@@ -73,6 +73,20 @@ class Bounds:
         """The greatest below of two things, None where there is none."""
         return self.downs.get(self.beneath[one] & self.beneath[other])
 
+    def up_all(self, things):
+        """The least above of one or more things of a full order."""
+        found = things[0]
+        for thing in things[1:]:
+            found = self.up(found, thing)
+        return found
+
+    def down_all(self, things):
+        """The greatest below of one or more things of a full order."""
+        found = things[0]
+        for thing in things[1:]:
+            found = self.down(found, thing)
+        return found
+
     def lack(self):
         """The first lack of the order, None where it is full."""
         for one, (row, turned) in enumerate(zip(self.above, self.beneath)):
@@ -90,10 +104,7 @@ class Bounds:
                 raise NoLetter("a letter of the word has no row: " + word)
             return things[word]
         worths = [self.worth(arm, things) for arm in word[1:]]
-        found = worths[0]
-        for worth in worths[1:]:
-            found = self.up(found, worth) if word[0] == UP else self.down(found, worth)
-        return found
+        return self.up_all(worths) if word[0] == UP else self.down_all(worths)
 
 
 def full_bounds(order):
@@ -101,6 +112,14 @@ def full_bounds(order):
     bounds = Bounds(order)
     if bounds.lack() is not None:
         raise NoFull("the order is not full")
+    return bounds
+
+
+def bounds_within(order, most):
+    """The bounds of an order that must be full and have at most so many things."""
+    bounds = full_bounds(order)
+    if len(order) > most:
+        raise NoRoom(f"the order has more than {most} things")
     return bounds
 
 

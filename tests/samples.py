@@ -1,5 +1,6 @@
 """Words and other things that the tests share, and ways to look at them that use nothing of the package."""
 
+import functools
 import itertools
 import random
 
@@ -414,3 +415,197 @@ def told_pairs(put_in):
     deep = put_in(deep_word(12), tuple((letter, deep_word(12)) for letter in "abc"))
     wide = put_in(wide_word(12), tuple((letter, ("down", "a", deep_word(11))) for letter in "abcdefghij"))
     return pairs + [(deep, deep_word(12)), (deep_word(12), deep), (deep, wide), (wide, deep), (wide, wide)]
+
+
+def at_parts(word, change):
+    """Every word that comes when one part of a word, at any depth, becomes one of the words that change tells of it."""
+    made = list(change(word))
+    if isinstance(word, tuple):
+        for at in range(1, len(word)):
+            made += [word[:at] + (new,) + word[at + 1:] for new in at_parts(word[at], change)]
+    return made
+
+
+def made_alike(chance, word, letters):
+    """The word put another way, alike to it, by one change at a part that chance finds."""
+    kind = chance.choice(("turned", "brackets", "twice", "taken in", "deep"))
+    if kind == "deep" and isinstance(word, tuple):
+        at = chance.randrange(1, len(word))
+        return word[:at] + (made_alike(chance, word[at], letters),) + word[at + 1:]
+    if kind == "turned" and isinstance(word, tuple):
+        return (word[0], *chance.sample(word[1:], len(word) - 1))
+    if kind == "brackets" and len(word) > 3:
+        at = chance.randrange(1, len(word) - 1)
+        return word[:at] + ((word[0], *word[at:at + 2]),) + word[at + 2:]
+    if kind == "twice":
+        return (chance.choice(DEEDS), word, word) if isinstance(word, str) else (*word, chance.choice(word[1:]))
+    deed, other = chance.sample(DEEDS, 2)
+    return (deed, (other, chance_word(chance, chance.randint(1, 3), letters), word), word)
+
+
+def alike_words(word, many, seed, letters="abc"):
+    """So many words that are alike to a word, each made of the one ahead of it, the same ones each time."""
+    chance = random.Random(f"{seed} {word}")
+    words = []
+    for k in range(many):
+        word = made_alike(chance, word, letters)
+        words.append(word)
+    return words
+
+
+def plain_text(word):
+    """The text of a word by point 5."""
+    if isinstance(word, str):
+        return word
+    return "(" + {"up": "|", "down": "&"}[word[0]].join(plain_text(arm) for arm in word[1:]) + ")"
+
+
+def looks_short(word, known):
+    """Point 13 said out of the document: True where the word is short."""
+    if isinstance(word, str):
+        return True
+    deed, arms = word[0], word[1:]
+    other = {"up": "down", "down": "up"}[deed]
+
+    def under(one, two):
+        return below_by_rules(one, two, known) if deed == "up" else below_by_rules(two, one, known)
+
+    if not all((isinstance(arm, str) or arm[0] == other) and looks_short(arm, known) for arm in arms):
+        return False
+    if [plain_text(arm) for arm in arms] != sorted(plain_text(arm) for arm in arms):
+        return False
+    if any(under(one, two) for one, two in itertools.permutations(arms, 2)):
+        return False
+    return not any(under(inner, word) for arm in arms if isinstance(arm, tuple) for inner in arm[1:])
+
+
+def alike_by_rules(one, other, known):
+    """Point 13 said out of the document: True where each of two words is below the other."""
+    return below_by_rules(one, other, known) and below_by_rules(other, one, known)
+
+
+def turned_by_looking(order):
+    """The order turned over."""
+    every = range(len(order))
+    return tuple(sum(1 << k for k in every if order[k] >> m & 1) for m in every)
+
+
+def same_but_for_numbers(order):
+    """One order for all that are the same but for the numbers of their things."""
+    every = range(len(order))
+    kinds = [(row.bit_count(), under.bit_count()) for row, under in zip(order, turned_by_looking(order))]
+    for k in range(3):
+        seen = [(kinds[k], sorted(kinds[m] for m in every if order[k] >> m & 1),
+                 sorted(kinds[m] for m in every if order[m] >> k & 1)) for k in every]
+        kinds = [sorted(seen).index(kind) for kind in seen]
+    groups = [[k for k in every if kinds[k] == kind] for kind in sorted(set(kinds))]
+    tries = []
+    for groups_turned in itertools.product(*[itertools.permutations(group) for group in groups]):
+        things = [thing for group in groups_turned for thing in group]
+        place = {thing: at for at, thing in enumerate(things)}
+        tries.append(tuple(sum(1 << place[m] for m in every if order[k] >> m & 1) for k in things))
+    return min(tries)
+
+
+@functools.cache
+def every_full_order(many):
+    """All full orders of so many things, one of those that are the same but for the numbers of their things."""
+    if many <= 2:
+        return [chain(many)]
+    found = set()
+    for order in every_full_order(many - 1):
+        # Without a thing next above the lowest a full order is full still, so each comes of one that is less by it.
+        lowest = order.index((1 << many - 1) - 1)
+        for above in range(1, 1 << many - 1):
+            if above >> lowest & 1 or any(above >> k & 1 and order[k] & ~above for k in range(many - 1)):
+                continue
+            rows = [row | 1 << many - 1 if k == lowest else row for k, row in enumerate(order)]
+            more = (*rows, above | 1 << many - 1)
+            if is_full_at_once(more):
+                found.add(same_but_for_numbers(more))
+    return sorted(found)
+
+
+def small_full_orders(most):
+    """All full orders of up to so many things, but for their numbers, numbered in some way."""
+    chance = random.Random(most)
+    orders = [order for many in range(1, most + 1) for order in every_full_order(many)]
+    return [renumbered(order, chance.sample(range(len(order)), len(order))) for order in orders]
+
+
+def points_and_lines():
+    """Seven points and seven lines, three points on each, with a lowest and a highest thing around them."""
+    lines = [[k, (k + 1) % 7, (k + 3) % 7] for k in range(7)]
+    pairs = [(1 + point, 8 + line) for line, points in enumerate(lines) for point in points]
+    return order_of(16, pairs + [(0, 1 + k) for k in range(7)] + [(8 + k, 15) for k in range(7)])
+
+
+class Table:
+    """The bounds of a full order, each looked up once by point 8."""
+
+    def __init__(self, order):
+        every = range(len(order))
+        self.order = order
+        self.every = every
+        self.up = {(k, m): bound_by_looking(order, "up", k, m) for k in every for m in every}
+        self.down = {(k, m): bound_by_looking(order, "down", k, m) for k in every for m in every}
+
+    def below(self, one, other):
+        return bool(self.order[one] >> other & 1)
+
+    def top(self, things):
+        return functools.reduce(lambda one, other: self.up[one, other], things)
+
+
+def singles_by_looking(table):
+    """Point 18 said out of the document: the single things, rising."""
+    lowest = [k for k in table.every if all(table.below(k, m) for m in table.every)]
+    made = {
+        table.up[k, m] for k in table.every for m in table.every if table.up[k, m] not in (k, m)
+    }
+    return [k for k in table.every if k not in lowest and k not in made]
+
+
+def least_rows_by_looking(table, thing):
+    """Point 18 said out of the document, each row tried: the least rows of a thing."""
+    order = table.order
+    under = turned_by_looking(order)
+    others = [k for k in table.every if not table.below(thing, k)]
+    singles = singles_by_looking(table)
+    reaching = [
+        row for many in range(1, len(others) + 1) for row in itertools.combinations(others, many)
+        if table.below(thing, table.top(row))
+    ]
+    masks = [sum(1 << k for k in row) for row in reaching]
+    found = []
+    for row, mask in zip(reaching, masks):
+        if len(row) < 2 or not set(row) <= set(singles):
+            continue
+        beneath = functools.reduce(lambda one, other: one | other, [under[k] for k in row])
+        if all(mask & other == mask for other in masks if other & ~beneath == 0):
+            found.append(row)
+    return tuple(sorted(found))
+
+
+def hanging_by_looking(table):
+    """Point 19 said out of the document: all pairs of a single thing and one that it hangs on."""
+    return tuple(sorted({
+        (thing, other) for thing in singles_by_looking(table)
+        for row in least_rows_by_looking(table, thing) for other in row
+    }))
+
+
+def come_to(pairs, thing):
+    """All things that can be come to from a thing by one step or more along the pairs."""
+    found, waiting = set(), [thing]
+    while waiting:
+        here = waiting.pop()
+        for other in [high for low, high in pairs if low == here and high not in found]:
+            found.add(other)
+            waiting.append(other)
+    return found
+
+
+def has_ring(pairs):
+    """True where some thing can be come to from itself along the pairs."""
+    return any(thing in come_to(pairs, thing) for thing, other in pairs)

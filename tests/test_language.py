@@ -37,6 +37,19 @@ def nodes(kind):
     return [(path, node) for path, tree in trees() for node in ast.walk(tree) if isinstance(node, kind)]
 
 
+def parents():
+    return [
+        (path, node, inner) for path, tree in trees() for node in ast.walk(tree) for inner in ast.iter_child_nodes(node)
+    ]
+
+
+def called_name(node):
+    """The name of the function, or of the method, that a call calls, None of any other node."""
+    if not isinstance(node, ast.Call):
+        return None
+    return getattr(node.func, "id", None) or getattr(node.func, "attr", None)
+
+
 def own_methods():
     return {inner.name for path, node in nodes(ast.ClassDef) for inner in node.body if hasattr(inner, "name")}
 
@@ -146,6 +159,122 @@ class LanguageTest(unittest.TestCase):
             self.assertNotIsInstance(node.value, (float, complex), where)
             if isinstance(node.value, str):
                 self.assertNotIn("%", node.value, where)
+
+    def test_module_level(self):
+        for path, tree in trees():
+            bound = [alias.asname or alias.name for node in tree.body if isinstance(node, ast.ImportFrom)
+                     for alias in node.names]
+            for at, node in enumerate(tree.body):
+                if isinstance(node, ast.Expr):
+                    self.assertTrue(at == 0 and isinstance(node.value, ast.Constant), path.name)
+                elif isinstance(node, ast.Assign):
+                    bound += [target.id for target in node.targets]
+                    self.assertEqual(len(node.targets), 1, path.name)
+                    for inner in ast.walk(node.value):
+                        self.assertIsInstance(inner, (ast.Constant, ast.Tuple, ast.Dict, ast.Name, ast.Load), path.name)
+                elif isinstance(node, (ast.FunctionDef, ast.ClassDef)):
+                    bound.append(node.name)
+                else:
+                    self.assertIsInstance(node, ast.ImportFrom, path.name)
+            self.assertEqual(len(bound), len(set(bound)), path.name)
+
+    def test_functions(self):
+        for path, node in nodes(ast.FunctionDef):
+            where = f"{path.name} {node.name}"
+            self.assertEqual(node.decorator_list, [], where)
+            self.assertEqual(node.args.posonlyargs + node.args.kwonlyargs + node.args.defaults, [], where)
+            self.assertIsNone(node.args.vararg or node.args.kwarg or node.returns, where)
+            for inner in ast.walk(node):
+                self.assertFalse(isinstance(inner, (ast.FunctionDef, ast.Lambda)) and inner is not node, where)
+        for path, node in nodes((ast.Lambda, ast.Yield, ast.With, ast.Match, ast.NamedExpr, ast.Delete, ast.AnnAssign)):
+            self.fail(f"{path.name} line {node.lineno}: not in use here, so its rules are not looked at")
+
+    def test_generator_expressions_stand_in_calls(self):
+        heads = "list tuple dict sorted sum min max any all join".split()
+        for path, node, inner in parents():
+            if isinstance(inner, ast.GeneratorExp):
+                self.assertIn(called_name(node), heads, f"{path.name} line {inner.lineno}")
+                self.assertEqual(len(node.args) + len(node.keywords), 1, f"{path.name} line {inner.lineno}")
+
+    def test_stars_stand_over_names(self):
+        for path, node, inner in parents():
+            if isinstance(inner, ast.Starred):
+                where = f"{path.name} line {inner.lineno}"
+                self.assertIsInstance(inner.value, (ast.Name, ast.Attribute), where)
+                self.assertIsInstance(node, (ast.Tuple, ast.List, ast.Call), where)
+
+    def test_sets_stand_in_sorted_and_len(self):
+        for path, node, inner in parents():
+            if isinstance(inner, (ast.Set, ast.SetComp)) or called_name(inner) == "set":
+                self.assertIn(called_name(node), ("sorted", "len"), f"{path.name} line {inner.lineno}")
+                self.assertEqual(node.keywords, [], f"{path.name} line {inner.lineno}")
+            self.assertNotEqual(called_name(inner), "frozenset", path.name)
+
+    def test_ranges_and_the_like_are_iterated_on_the_spot(self):
+        lazy = "zip enumerate reversed range items keys values".split()
+        heads = "list tuple dict sorted sum any all enumerate zip min max".split()
+        for path, node, inner in parents():
+            if called_name(inner) in lazy:
+                looped = isinstance(node, (ast.For, ast.comprehension)) and node.iter is inner
+                self.assertTrue(looped or called_name(node) in heads, f"{path.name} line {inner.lineno}")
+
+    def test_keywords(self):
+        for path, node in nodes(ast.keyword):
+            self.assertIn(node.arg, ("key", "reverse", "default", "start", "strict"), path.name)
+        for path, node in nodes(ast.Call):
+            if node.keywords:
+                self.assertIn(called_name(node), ("sorted", "min", "max"), f"{path.name} line {node.lineno}")
+
+    def test_raised_and_caught(self):
+        own = {node.name for path, node in nodes(ast.ClassDef) if path.name == "errors.py"}
+        for path, node in nodes(ast.Raise):
+            self.assertIsInstance(node.exc, ast.Call, f"{path.name} line {node.lineno}")
+            self.assertIn(node.exc.func.id, own, f"{path.name} line {node.lineno}")
+        for path, node in nodes(ast.ExceptHandler):
+            self.assertIn(node.type.id, own, f"{path.name} line {node.lineno}")
+
+    def test_second_arguments_of_isinstance(self):
+        for path, node in nodes(ast.Call):
+            if called_name(node) == "isinstance":
+                kinds = node.args[1].elts if isinstance(node.args[1], ast.Tuple) else [node.args[1]]
+                for kind in kinds:
+                    self.assertIn(kind.id, ("int", "str", "bool", "list", "tuple", "dict"), path.name)
+
+    def test_classes_are_called_or_stand_above_another(self):
+        classes = {node.name for path, node in nodes(ast.ClassDef)}
+        for path, node, inner in parents():
+            if isinstance(inner, ast.Name) and inner.id in classes:
+                called = isinstance(node, ast.Call) and node.func is inner
+                where = f"{path.name} line {inner.lineno}"
+                self.assertTrue(called or isinstance(node, (ast.ClassDef, ast.ExceptHandler)), where)
+
+    def test_double_underscore_methods(self):
+        for name in own_methods():
+            self.assertTrue(name == "__init__" or not name.startswith("_"), name)
+
+    def test_escapes_and_powers(self):
+        for path in FILES:
+            self.assertIsNone(re.search(r"\\(?![nt\\'\"])", path.read_text()), path.name)
+        for path, node in nodes(ast.Pow):
+            self.fail(path.name)
+
+    def test_no_package_file_has_a_barred_name(self):
+        for path in FILES:
+            barred = {*dir(builtins), "test", "tests", "testing", "site", "conftest"} - {"__init__"}
+            self.assertNotIn(path.stem, barred)
+
+    def test_what_a_loop_goes_through_is_not_changed_in_it(self):
+        changing = "append clear extend insert pop remove reverse setdefault update sort".split()
+        for path, node in nodes(ast.For):
+            through = {ast.dump(inner) for inner in ast.walk(node.iter) if isinstance(inner, (ast.Name, ast.Attribute))}
+            if called_name(node.iter) in ("list", "sorted"):
+                continue
+            for inner in [deep for row in node.body for deep in ast.walk(row)]:
+                where = f"{path.name} line {node.lineno}"
+                if isinstance(inner, ast.Call) and isinstance(inner.func, ast.Attribute) and inner.func.attr in changing:
+                    self.assertNotIn(ast.dump(inner.func.value), through, where)
+                if isinstance(inner, ast.Subscript) and not isinstance(inner.ctx, ast.Load):
+                    self.assertNotIn(ast.dump(inner.value), through, where)
 
 
 if __name__ == "__main__":

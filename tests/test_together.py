@@ -1,4 +1,4 @@
-"""Points 2 and 3: of every two words either a way or a break, and nothing hangs on what was asked before."""
+"""Points 2 and 3, over the modules: what they tell fits together, and nothing hangs on what was asked before."""
 
 import itertools
 import unittest
@@ -6,9 +6,13 @@ import unittest
 from eitherboth.below import is_below
 from eitherboth.breaks import break_of, break_stands
 from eitherboth.errors import NoRoom
+from eitherboth.narrow import book_of, picture_of, share_break, shares_out, shifts
 from eitherboth.orders import first_lack, is_order, order_turned, worth_of
+from eitherboth.shortest import are_alike, short_of
 from eitherboth.ways import way_of, way_stands
-from samples import breaks_it, great_words, small_words, walks, word_pairs
+from samples import (
+    breaks_it, chain, full_orders, great_words, sets_order, small_full_orders, small_words, walks, word_pairs,
+)
 
 
 def told_of(one, other):
@@ -84,6 +88,56 @@ class TogetherTest(unittest.TestCase):
             before = repr((one, other))
             told_of(one, other)
             self.assertEqual(repr((one, other)), before)
+
+
+class ShortestFormTest(unittest.TestCase):
+    def test_two_words_are_alike_just_where_their_shortest_forms_are_the_same(self):
+        kinds = set()
+        for one, other in word_pairs(60, 37, "abc"):
+            for low, high in ((one, other), (one, ("up", one, ("down", one, other))), (one, ("up", one, other))):
+                same = short_of(low) == short_of(high)
+                self.assertIs(are_alike(low, high), same)
+                self.assertIs(is_below(low, high) and is_below(high, low), same)
+                kinds.add(same)
+        self.assertEqual(kinds, {True, False})
+
+    def test_the_shortest_form_has_the_same_worth(self):
+        orders = [order for order in small_full_orders(6) if len(order) > 3]
+        for at, (one, other) in enumerate(word_pairs(20, 38, "abc")):
+            order = orders[at % len(orders)]
+            choice = tuple((letter, (at * k + k) % len(order)) for k, letter in enumerate("abc", 2))
+            for word in (one, other):
+                self.assertEqual(worth_of(order, word, choice), worth_of(order, short_of(word), choice))
+
+    def test_ways_and_breaks_of_shortest_forms(self):
+        for one, other in word_pairs(15, 39, "abc"):
+            low, high = short_of(one), short_of(other)
+            self.assertIs(is_below(low, high), is_below(one, other))
+            way = way_of(low, high)
+            self.assertEqual(way is not None, is_below(one, other))
+            self.assertTrue(way is None or walks(low, high, way))
+
+
+class SharingTest(unittest.TestCase):
+    def test_an_order_shares_out_or_shifts_or_holds_a_picture(self):
+        for order in small_full_orders(7) + [order for order in full_orders() if len(order) <= 16]:
+            told = picture_of(order)
+            wanted = None if shares_out(order) else "three" if shifts(order) else "side"
+            self.assertEqual(told if told is None else told[0], wanted)
+
+    def test_what_is_below_is_so_in_sharing_orders(self):
+        for one, other in word_pairs(40, 40, "abcd"):
+            told = share_break(one, other)
+            if told is None:
+                for order in (chain(3), sets_order(2)):
+                    choice = tuple((letter, at % len(order)) for at, letter in enumerate("abcd", 1))
+                    low, high = worth_of(order, one, choice), worth_of(order, other, choice)
+                    self.assertTrue(order[low] >> high & 1)
+                continue
+            self.assertIs(is_below(one, other), False)
+            self.assertNotEqual(book_of(one), book_of(other))
+            choice = tuple((letter, int(letter in told)) for letter in "abcd")
+            self.assertIs(break_stands(one, other, ((3, 2), choice)), True)
 
 
 if __name__ == "__main__":

@@ -28,6 +28,10 @@ class Parts:
             self.arms.append(key[1:])
         return self.numbers[key]
 
+    def number_together(self, deed, arms):
+        """The number of the part of this deed with these arms' numbers; one arm alone stands for it."""
+        return arms[0] if len(arms) == 1 else self.number_by((deed, *arms))
+
     def below(self, one, other):
         """True where part number one is below part number other."""
         if one == other:

@@ -20,18 +20,11 @@ def like_letters(row):
     numbers = [parts.number_of(word) for word in row]
     for at, number in enumerate(numbers):
         others = numbers[:at] + numbers[at + 1:]
-        if parts.below(number, put_together(parts, UP, others)):
+        if parts.below(number, parts.number_together(UP, others)):
             return (at, UP)
-        if parts.below(put_together(parts, DOWN, others), number):
+        if parts.below(parts.number_together(DOWN, others), number):
             return (at, DOWN)
     return None
-
-
-def put_together(parts, deed, numbers):
-    """The number of the part of this deed with these arms; one arm alone stands for it."""
-    if len(numbers) == 1:
-        return numbers[0]
-    return parts.number_by((deed, *numbers))
 
 
 def four_words():

@@ -21,6 +21,7 @@ def next_belows(bounds):
 def rows_of(bounds, nexts, thing):
     """All least rows of a thing, a tuple in the order of tuples; nexts has what is next below each single thing."""
     singles = [single for single in nexts if not is_at_or_below(bounds.above, thing, single)]
+    # None of these is at or above the thing, so that one alone never reaches it.
     rows = [tuple([singles[at] for at in numbers_in(chosen)]) for chosen in range(1, 1 << len(singles))]
     return tuple(sorted([row for row in rows if is_least_row(bounds, nexts, thing, row)]))
 
@@ -44,6 +45,13 @@ def all_rows(bounds):
     """For each thing of an order all its least rows."""
     nexts = next_belows(bounds)
     return [rows_of(bounds, nexts, thing) for thing in range(len(bounds.above))]
+
+
+def rows_without_ring(bounds):
+    """For each thing of an order, which must have no ring, all its least rows."""
+    if ring_in(hanging(bounds)) is not None:
+        raise NoEnd("there is a ring of things that hang on one another")
+    return all_rows(bounds)
 
 
 def hung_on(rows):
@@ -99,10 +107,7 @@ def ring_of(order):
 
 def steps_down(order):
     """How many steps down each thing of a full order has."""
-    bounds = bounds_within(order, ROOM)
-    rows = all_rows(bounds)
-    if ring_in(hanging(bounds)) is not None:
-        raise NoEnd("there is a ring of things that hang on one another")
+    rows = rows_without_ring(bounds_within(order, ROOM))
     steps = {}
     return tuple([steps_of(rows, thing, steps) for thing in range(len(order))])
 

@@ -40,10 +40,7 @@ class Shorts(Parts):
         if is_letter(deed):
             return number
         arms = self.outer_arms(deed, self.arms_left(deed, number))
-        if len(arms) == 1:
-            return arms[0]
-        arms = sorted(arms, key=self.text_by)
-        return self.number_by((deed, *arms))
+        return self.number_together(deed, sorted(arms, key=self.text_by))
 
     def arms_left(self, deed, number):
         """The short arms of a part of this deed, those of its own deed opened, when no arm gives way any more."""

@@ -609,3 +609,74 @@ def come_to(pairs, thing):
 def has_ring(pairs):
     """True where some thing can be come to from itself along the pairs."""
     return any(thing in come_to(pairs, thing) for thing, other in pairs)
+
+
+def looks_like_word(thing):
+    """Point 4 said out of the document, for any thing."""
+    if type(thing) is str:
+        return len(thing) == 1 and "a" <= thing <= "z"
+    if type(thing) is not tuple or len(thing) < 3 or type(thing[0]) is not str or thing[0] not in DEEDS:
+        return False
+    return all(looks_like_word(arm) for arm in thing[1:])
+
+
+def joined(deed, arms):
+    """The word of a deed and its arms; one arm alone is the word."""
+    return arms[0] if len(arms) == 1 else (deed, *arms)
+
+
+def first_words_by_looking(order):
+    """Point 20 said out of the document: the first words."""
+    return tuple(joined("down", ["abcdefgh"[k] for k in range(len(order)) if row >> k & 1]) for row in order)
+
+
+def lowered_by_looking(top, rows, words):
+    """Point 20 said out of the document: the "down" of a word and, for each row, the "up" of its things' words."""
+    return joined("down", [top, *[("up", *[words[thing] for thing in row]) for row in rows]])
+
+
+def own_choice(order):
+    """The choice that gives each letter its thing, a dict."""
+    return {"abcdefgh"[thing]: thing for thing in range(len(order))}
+
+
+def bars(table, thing):
+    """Point 22 said out of the document, for a tuple of one of the three forms."""
+    up, down, below = table.up, table.down, table.below
+    name, x, y, z = thing[:4]
+    if name == "four":
+        low, high = down[x, y], up[z, thing[4]]
+        return below(low, high) and not (below(x, high) or below(y, high) or below(low, z) or below(low, thing[4]))
+    if name == "up":
+        return up[x, y] == up[x, z] and up[x, down[y, z]] != up[x, y]
+    return down[x, y] == down[x, z] and down[x, up[y, z]] != down[x, y]
+
+
+def bar_forms(many):
+    """Every tuple of the three forms of a bar, with numbers below this one."""
+    threes = [(name, *things) for name in DEEDS for things in itertools.product(range(many), repeat=3)]
+    return threes + [("four", *things) for things in itertools.product(range(many), repeat=4)]
+
+
+def is_bar_by_looking(table, thing):
+    """Point 22 said out of the document, for any thing."""
+    if type(thing) is not tuple or not thing or type(thing[0]) is not str:
+        return False
+    if (thing[0], len(thing)) not in (("up", 4), ("down", 4), ("four", 5)):
+        return False
+    return all(type(number) is int and number in table.every for number in thing[1:]) and bars(table, thing)
+
+
+def forms_by_looking(order, thing):
+    """Point 23 said out of the document, for any thing: True where it is a tuple of words that forms the order."""
+    if type(thing) is not tuple or len(thing) != len(order) or not all(looks_like_word(word) for word in thing):
+        return False
+    known = {}
+    table = Table(order)
+    for one, other in itertools.combinations(table.every, 2):
+        if alike_by_rules(thing[one], thing[other], known):
+            return False
+        for deed, bound in (("up", table.up), ("down", table.down)):
+            if not alike_by_rules((deed, thing[one], thing[other]), thing[bound[one, other]], known):
+                return False
+    return True

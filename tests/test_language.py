@@ -271,7 +271,7 @@ class LanguageTest(unittest.TestCase):
                 continue
             for inner in [deep for row in node.body for deep in ast.walk(row)]:
                 where = f"{path.name} line {node.lineno}"
-                if isinstance(inner, ast.Call) and isinstance(inner.func, ast.Attribute) and inner.func.attr in changing:
+                if called_name(inner) in changing and isinstance(inner.func, ast.Attribute):
                     self.assertNotIn(ast.dump(inner.func.value), through, where)
                 if isinstance(inner, ast.Subscript) and not isinstance(inner.ctx, ast.Load):
                     self.assertNotIn(ast.dump(inner.value), through, where)

@@ -3,15 +3,24 @@
 import itertools
 import unittest
 
+from eitherboth.among import bar_of, bar_stands, words_for, words_stand
 from eitherboth.below import is_below
 from eitherboth.breaks import break_of, break_stands
-from eitherboth.errors import NoRoom
-from eitherboth.narrow import book_of, picture_of, share_break, shares_out, shifts
-from eitherboth.orders import first_lack, is_order, order_turned, worth_of
-from eitherboth.shortest import are_alike, short_of
+from eitherboth.desk import Desk
+from eitherboth.errors import NoEnd, NoFull, NoRoom, WordError
+from eitherboth.likeness import four_words, like_letters
+from eitherboth.narrow import all_books, book_of, picture_of, share_break, shares_out, shifts
+from eitherboth.orders import first_lack, is_order, made_by, order_turned, up_of, worth_of
+from eitherboth.rounds import greatest_words, least_words, round_words
+from eitherboth.rows import hanging_pairs, least_rows, ring_of, single_things, steps_down
+from eitherboth.shortest import are_alike, is_short, short_of
+from eitherboth.texts import order_text, read_order, read_word
 from eitherboth.ways import way_of, way_stands
+from eitherboth.words import is_word, letters_of, parts_of, places_of, put_in, text_of, word_turned
 from samples import (
-    breaks_it, chain, full_orders, great_words, sets_order, small_full_orders, small_words, walks, word_pairs,
+    CROSS, SIDE, THREE, below_by_rules, breaks_it, chain, every_full_order, flat, full_orders, great_words, letters_in,
+    only_told_kinds, own_choice, plain_text, sets_order, small_full_orders, small_words, turned_by_looking, walks,
+    word_pairs, word_parts, worth_by_looking,
 )
 
 
@@ -138,6 +147,151 @@ class SharingTest(unittest.TestCase):
             self.assertNotEqual(book_of(one), book_of(other))
             choice = tuple((letter, int(letter in told)) for letter in "abcd")
             self.assertIs(break_stands(one, other, ((3, 2), choice)), True)
+
+
+def words_told_of(order):
+    """All words that 20, 21 and 23 tell of a full order, the greater ones ahead."""
+    told = []
+    for number in range(7):
+        try:
+            told += round_words(order, number)
+        except NoRoom:
+            break
+    for function in (least_words, greatest_words, words_for):
+        try:
+            told += function(order) or ()
+        except NoEnd:
+            continue
+    return sorted(set(told), key=lambda word: (-places_of(word), plain_text(word)))
+
+
+class ToldWordsTest(unittest.TestCase):
+    """Point 4: words that were told are handed in again, whatever their places."""
+
+    def test_told_words_are_handed_in_again(self):
+        most = 0
+        for order in every_full_order(7)[::6] + every_full_order(8)[::24] + [SIDE, THREE]:
+            words = words_told_of(order)
+            most = max(most, places_of(words[0]))
+            choice = tuple(own_choice(order).items())
+            for word in words[:12:3]:
+                self.assertIs(is_word(word), True)
+                self.assertEqual(letters_of(word), tuple(sorted(letters_in(word))))
+                self.assertEqual(parts_of(word), tuple(sorted(word_parts(word), key=plain_text)))
+                self.assertEqual([text_of(word), read_word(text_of(word))], [plain_text(word), word])
+                self.assertEqual(word_turned(word_turned(word)), word)
+                self.assertEqual(put_in(word, tuple((letter, letter) for letter in "abcdefgh")), word)
+                self.assertEqual(worth_of(order, word, choice), worth_by_looking(order, word, dict(choice)))
+                self.assertEqual([is_short(word), short_of(word)], [True, word])
+                more = put_in(word, (("a", word),))
+                self.assertEqual(short_of(more), short_of(("up", more, more)))
+        self.assertGreater(most, 70)
+
+    def test_ways_between_told_words(self):
+        for order in every_full_order(7)[::9] + every_full_order(8)[::40] + [SIDE, THREE]:
+            words = words_told_of(order)
+            for one, other in itertools.product(words[:10:3] + words[-2:], repeat=2):
+                way = way_of(one, other)
+                self.assertIs(is_below(one, other), below_by_rules(one, other))
+                self.assertEqual(way is not None, is_below(one, other))
+                if way is not None:
+                    self.assertTrue(walks(one, other, way))
+                    self.assertIs(way_stands(one, other, way), True)
+                    self.assertTrue(only_told_kinds(way))
+
+    def test_parts_of_told_words(self):
+        for word in words_told_of(every_full_order(7)[30])[:3]:
+            for part in parts_of(word):
+                self.assertEqual(short_of(part), part)
+                self.assertEqual(read_word(text_of(part)), part)
+
+
+class AmongTest(unittest.TestCase):
+    def test_of_every_full_order_either_words_or_a_bar(self):
+        for order in small_full_orders(8):
+            words, bar = words_for(order), bar_of(order)
+            self.assertEqual(words is None, bar is not None)
+            if bar is None:
+                self.assertIs(words_stand(order, words), True)
+                self.assertIsNone(ring_of(order))
+                self.assertIsNone(ring_of(order_turned(order)))
+            else:
+                self.assertIs(bar_stands(order, bar), True)
+
+    def test_the_least_words_are_told_or_there_is_a_ring(self):
+        for order in small_full_orders(7):
+            if ring_of(order) is None:
+                self.assertEqual(len(least_words(order)), len(order))
+            else:
+                self.assertRaises(NoEnd, least_words, order)
+
+    def test_turned_over(self):
+        for order in small_full_orders(7):
+            turned = turned_by_looking(order)
+            self.assertEqual(bar_of(order) is None, bar_of(turned) is None)
+            words = words_for(order)
+            if words is not None:
+                self.assertIs(words_stand(turned, tuple(word_turned(word) for word in words)), True)
+
+
+ORDER_FUNCTIONS = (
+    first_lack, order_turned, is_order, shares_out, shifts, single_things, hanging_pairs, steps_down, least_words,
+    greatest_words, order_text, lambda order: up_of(order, 0, len(order) - 1), lambda order: least_rows(order, 0),
+    lambda order: made_by(order, (0, len(order) - 1)), lambda order: round_words(order, 2),
+    lambda order: bar_of(order) is None, lambda order: words_for(order) is None,
+    lambda order: picture_of(order) is None, lambda order: ring_of(order) is None,
+)
+WORD_FUNCTIONS = (
+    is_word, places_of, letters_of, parts_of, text_of, word_turned, is_short, short_of, book_of,
+    lambda word: is_below(word, "a"), lambda word: way_of("a", word) is None,
+    lambda word: are_alike(word, ("up", "a", "b")),
+    lambda word: like_letters((word, "a", "b")), lambda word: share_break("a", word) is None, lambda word: four_words(),
+    lambda word: all_books(len(letters_of(word)) % 3 + 1), lambda word: read_word(text_of(word)),
+    lambda word: read_order(order_text(chain(places_of(word)))),
+)
+
+
+def told_or_refused(function, thing):
+    """What a function tells of a thing, or the class that it refuses it with."""
+    try:
+        return function(thing)
+    except WordError as refusal:
+        return type(refusal)
+
+
+class AskedBeforeTest(unittest.TestCase):
+    """Point 2: nothing hangs on what was asked before."""
+
+    def check(self, functions, things):
+        firsts = [told_or_refused(function, thing) for function in functions for thing in things]
+        turned = [told_or_refused(function, thing) for thing in reversed(things) for function in reversed(functions)]
+        again = [told_or_refused(function, thing) for function in functions for thing in things]
+        self.assertEqual(again, firsts)
+        self.assertEqual(sorted(turned, key=repr), sorted(firsts, key=repr))
+        for told in firsts:
+            self.assertTrue(isinstance(told, type) or only_told_kinds(told))
+        return firsts
+
+    def test_orders(self):
+        orders = small_full_orders(5) + [CROSS, chain(11), chain(16), flat(6), (1, 2), SIDE, THREE, sets_order(3)]
+        before = repr(orders)
+        told = self.check(ORDER_FUNCTIONS, orders)
+        self.assertLessEqual({NoFull, NoRoom, NoEnd}, {one for one in told if isinstance(one, type)})
+        self.assertEqual(repr(orders), before)
+
+    def test_words(self):
+        words = great_words()[::8] + small_words()[:20]
+        before = repr(words)
+        self.check(WORD_FUNCTIONS, words)
+        self.assertEqual(repr(words), before)
+
+    def test_a_desk_hangs_on_its_own_deeds_alone(self):
+        rows = ("word x (a|b)", "order n 0,1 1", "lives n", "steps n", "below x x", "short y x", "names", "show y", "x")
+        firsts = [told_or_refused(Desk().say, row) for row in rows]
+        desk = Desk()
+        for row in rows:
+            told_or_refused(desk.say, row)
+        self.assertEqual([told_or_refused(Desk().say, row) for row in rows], firsts)
 
 
 if __name__ == "__main__":
